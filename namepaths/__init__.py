@@ -1,0 +1,1 @@
+"""Namepaths: what a name means, told by ways through a net of scopes."""
