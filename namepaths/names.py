@@ -1,4 +1,4 @@
-"""What a whole number is and what a name is, asked of anything."""
+"""What a whole number is and what a name is, asked of anything; what numbers there are of so many."""
 
 LONGEST_NAME = 8
 
@@ -14,3 +14,8 @@ def is_name(thing):
         return False
     # Held against a and z one by one: Python's own islower takes letters of every alphabet.
     return all(["a" <= sign <= "z" for sign in thing])
+
+
+def is_place(number, many):
+    """True where this is the number of one of so many, numbered from 0."""
+    return is_whole(number) and 0 <= number < many

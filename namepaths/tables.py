@@ -1,7 +1,7 @@
 """Tables: which steps may be gone in which state, what may be found there, and what is better."""
 
 from namepaths.errors import NoName, NoPlace, TooGreat, Twice
-from namepaths.names import is_name, is_whole
+from namepaths.names import is_name, is_place
 from namepaths.orders import order_of
 
 MOST_STATES = 8
@@ -87,16 +87,12 @@ def labels_of(goes):
 def refuse_no_places(states, inner):
     if not states:
         raise NoPlace("no states at all")
-    if not is_place(inner, states):
+    if not is_place(inner, len(states)):
         raise NoPlace("an inner that is no state's number")
     for goes, ends in states:
         for label, number in goes:
-            if not is_place(number, states):
+            if not is_place(number, len(states)):
                 raise NoPlace("a next that is no state's number")
-
-
-def is_place(number, states):
-    return is_whole(number) and 0 <= number < len(states)
 
 
 def refuse_twice(states):

@@ -1,8 +1,8 @@
-"""Point 2: what a whole number is, what a name is."""
+"""Point 2: what a whole number is, what a name is; what numbers there are of so many."""
 
 import unittest
 
-from namepaths.names import is_name, is_whole
+from namepaths.names import is_name, is_place, is_whole
 
 NO_TEXTS = (None, True, False, 0, 7, 1.5, b"up", ["u", "p"], ("up",), {"up": 1}, {"up"}, object(), len, str)
 
@@ -48,6 +48,17 @@ class Names(unittest.TestCase):
     def test_things_that_are_no_text(self):
         for thing in NO_TEXTS:
             self.assertIs(is_name(thing), False, thing)
+
+
+class Places(unittest.TestCase):
+    def test_numbers_there_are(self):
+        for many in (0, 1, 2, 40):
+            for number in (-41, -2, -1, 0, 1, 2, 39, 40, 41, 10 ** 3999, -(10 ** 3999)):
+                self.assertIs(is_place(number, many), number in range(many))
+
+    def test_truths_are_none(self):
+        self.assertIs(is_place(True, 2), False)
+        self.assertIs(is_place(False, 2), False)
 
 
 if __name__ == "__main__":
