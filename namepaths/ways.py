@@ -22,18 +22,28 @@ def beginnings(net, answers, table, scope, state):
 
 def found_ways(net, answers, table, scope, state, name):
     """Each way of the look to a telling of the name, sorted."""
+    return found_behind(net, table, beginnings(net, answers, table, scope, state), name)
+
+
+def owed_ways(net, answers, table, scope, state):
+    """Each way of the look to a step whose goal is open, as (marks, question), sorted."""
+    return owed_behind(net, answers, table, beginnings(net, answers, table, scope, state))
+
+
+def found_behind(net, table, begun, name):
+    """The found ways of a look whose beginnings are these."""
     ways = []
-    for marks, last, then in beginnings(net, answers, table, scope, state):
+    for marks, last, then in begun:
         for index, telling in enumerate(net[0][last][1]):
             if telling[1] == name and has_end(table, then, telling[0]):
                 ways.append(marks + [(last, "told", index)])
     return sorted(ways)
 
 
-def owed_ways(net, answers, table, scope, state):
-    """Each way of the look to a step whose goal is open, as (marks, question), sorted."""
+def owed_behind(net, answers, table, begun):
+    """The owed ways of a look whose beginnings are these."""
     ways = []
-    for marks, last, then in beginnings(net, answers, table, scope, state):
+    for marks, last, then in begun:
         for mark, kind, number, after in steps_gone(net, answers, table, last, then):
             if kind == "open":
                 ways.append((marks + [mark], number))

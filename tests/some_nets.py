@@ -69,3 +69,29 @@ def some_table(chance):
                 [(chance.choice(LABELS), chance.choice(LABELS)) for _ in range(pairs)])
         except Ring:
             pass
+
+
+def some_path(chance):
+    return tuple(chance.choice(NAMES) for _ in range(chance.choice((1, 1, 1, 2, 2, 3, 4, 6))))
+
+
+def asking_net(chance, table, questions=6, many=5):
+    """A net whose questions have paths of several names, from states of the table; sparser than some_net's."""
+    scopes, things = chance.randint(1, many), chance.randint(1, 6)
+    questions = chance.randint(1, questions)
+    return net_of(
+        [([some_step(chance, scopes, questions) for _ in range(chance.randint(0, 3))],
+          [some_telling(chance, things, questions) for _ in range(chance.randint(0, 3))]) for _ in range(scopes)],
+        [some_thing(chance, scopes, questions) for _ in range(things)],
+        [(chance.randrange(scopes), chance.randrange(len(table[0])), some_path(chance)) for _ in range(questions)])
+
+
+def some_answers(chance, net):
+    """Answers of the net: of things and names that there are."""
+    answers = []
+    for scope, state, path in net[2]:
+        kind, number = some_answer(chance, len(net[1])) or (None, None)
+        if kind in ("none", "torn"):
+            number = chance.randrange(len(path))
+        answers.append(None if kind is None else (kind, number))
+    return answers

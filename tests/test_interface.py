@@ -25,6 +25,13 @@ FUNCTIONS = (
     ("worth", "hides(net, table, one, other)"),
     ("worth", "seen_ways(net, table, ways)"),
     ("worth", "hidden_ways(net, table, ways)"),
+    ("finds", "find(net, answers, table, question)"),
+    ("finds", "trail(net, answers, table, question)"),
+    ("walked", "walked(net, answers, table, question)"),
+    ("walked", "used(net, answers, table, question)"),
+    ("still", "still(net, table)"),
+    ("rings", "waits(net, answers, table)"),
+    ("rings", "ring_of(net, answers, table)"),
 )
 
 
