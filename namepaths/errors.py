@@ -1,11 +1,6 @@
 """The refusals: each one is a class of its own under PathError."""
 
-
-def own_lists(thing):
-    """The same again, its lists new ones, so that nobody else can change them."""
-    if isinstance(thing, list):
-        return [own_lists(part) for part in thing]
-    return thing
+from namepaths.copies import own_lists
 
 
 class PathError(ValueError):

@@ -17,9 +17,8 @@ def look_up(net, answers, table, asked):
     things = []
     for at, name in enumerate(path):
         begun = beginnings(net, answers, table, scope, state)
-        found = found_behind(net, table, begun, name)
-        looks.append((begun, found, seen_ways(net, table, found)))
-        answer, wait = met(net, answers, table, looks[-1], at)
+        looks.append(look_for(net, table, begun, name))
+        answer, wait = met(net, answers, table, owed_behind(net, answers, table, begun), looks[-1], at)
         if answer is None or answer[0] != "thing" or at == len(path) - 1:
             return (answer, wait, looks, things)
         things.append(answer[1])
@@ -32,14 +31,20 @@ def look_up(net, answers, table, asked):
         state = table[1]
 
 
-def met(net, answers, table, look, at):
-    """What the look for the name of this number meets, as (answer, wait)."""
+def look_for(net, table, begun, name):
+    """The look for a name behind these beginnings, as (beginnings, found ways, seen ways)."""
+    found = found_behind(net, table, begun, name)
+    return (begun, found, seen_ways(net, table, found))
+
+
+def met(net, answers, table, owed, look, at):
+    """What the look, with these owed ways, meets for the name of this number, as (answer, wait)."""
     begun, found, seen = look
-    owed = first_owed(net, table, found, owed_behind(net, answers, table, begun))
-    if owed is None:
-        owed = first_open(net, answers, seen)
-    if owed is not None:
-        way, question = owed
+    waiting = first_owed(net, table, found, owed)
+    if waiting is None:
+        waiting = first_open(net, answers, seen)
+    if waiting is not None:
+        way, question = waiting
         return (None, (at, way, question))
     meanings = [meaning(net, answers, way) for way in seen]
     # No seen way at all and ways that mean nothing come to the same.

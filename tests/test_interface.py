@@ -1,4 +1,4 @@
-"""The interface: each function is there under its name, in its module, with its arguments as they stand."""
+"""The interface: each function and class is there under its name, in its module, with its arguments as they stand."""
 
 import importlib
 import inspect
@@ -32,6 +32,30 @@ FUNCTIONS = (
     ("still", "still(net, table)"),
     ("rings", "waits(net, answers, table)"),
     ("rings", "ring_of(net, answers, table)"),
+    ("house", "House(net, table)"),
+    ("anew", "renamed(net, table, scope, index, name)"),
+    ("gaps", "may_stand(net, answers, table, scope, state=0)"),
+    ("items", "Item()"),
+    ("items", "Part(reach, name, items)"),
+    ("items", "Thing(reach, name, of=None)"),
+    ("items", "Let(name, of=None)"),
+    ("items", "Elder(path)"),
+    ("items", "All(path, on=False)"),
+    ("items", "One(reach, name, path)"),
+    ("items", "Ask(path)"),
+)
+
+METHODS = (
+    ("house", "House", "tell(self, scope, telling)"),
+    ("house", "House", "step(self, scope, step)"),
+    ("house", "House", "untell(self, scope, index)"),
+    ("house", "House", "unstep(self, scope, index)"),
+    ("house", "House", "room(self)"),
+    ("house", "House", "thing(self, kind, number)"),
+    ("house", "House", "ask(self, scope, path, state=0)"),
+    ("house", "House", "net(self)"),
+    ("house", "House", "answers(self)"),
+    ("house", "House", "gone(self)"),
 )
 
 
@@ -41,6 +65,12 @@ class Interface(unittest.TestCase):
             name = words.partition("(")[0]
             function = getattr(importlib.import_module("namepaths." + module), name)
             self.assertEqual(name + str(inspect.signature(function)), words)
+
+    def test_methods_and_arguments(self):
+        for module, kind, words in METHODS:
+            name = words.partition("(")[0]
+            method = getattr(getattr(importlib.import_module("namepaths." + module), kind), name)
+            self.assertEqual(name + str(inspect.signature(method)), words)
 
 
 if __name__ == "__main__":
