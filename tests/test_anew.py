@@ -264,7 +264,7 @@ class AnyNets(unittest.TestCase):
         for _ in range(500):
             table = some_table(chance)
             net = asking_net(chance, table)
-            places = [(scope, index) for scope, (steps, tellings) in enumerate(net[0]) for index in range(len(tellings))]
+            places = [(scope, index) for scope, parts in enumerate(net[0]) for index in range(len(parts[1]))]
             if not places:
                 continue
             scope, index = chance.choice(places)

@@ -43,6 +43,12 @@ FUNCTIONS = (
     ("items", "All(path, on=False)"),
     ("items", "One(reach, name, path)"),
     ("items", "Ask(path)"),
+    ("laying", "net_by(program)"),
+    ("texts", "read(text)"),
+    ("texts", "written(program)"),
+    ("tabletexts", "read_table(text)"),
+    ("tabletexts", "show_table(table)"),
+    ("desk", "Desk()"),
 )
 
 METHODS = (
@@ -56,6 +62,7 @@ METHODS = (
     ("house", "House", "net(self)"),
     ("house", "House", "answers(self)"),
     ("house", "House", "gone(self)"),
+    ("desk", "Desk", "say(self, row)"),
 )
 
 
