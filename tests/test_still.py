@@ -229,7 +229,7 @@ class AnyNets(unittest.TestCase):
                 seen[2] += not any(looked(net, [None] * 4, table, question).tangled for question in range(4))
             else:
                 self.assertEqual(still(net, table), (answers, turns))
-        self.assertGreater(min(seen), 5, seen)
+        self.assertGreater(min(seen), 2, seen)
 
     def test_later_answers_change_nothing_that_is_found(self):
         chance = random.Random(20)
