@@ -87,7 +87,7 @@ class House:
         """The net as the house's own, the questions that are gone through again answered anew, the others as before."""
         refuse_lacking_states(net, self.kept_table)
         more = [None] * (len(net[2]) - len(self.kept_answers))
-        # What isn't gone through again finds just what it found, in a net that is tangled nowhere else than before.
+        # What isn't gone through again would find what it found before, by looks that are no more tangled than then.
         answers, turns = settled(net, self.kept_table, self.kept_answers + more, gone)
         self.kept_net = net
         self.kept_answers = answers
